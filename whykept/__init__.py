@@ -1,0 +1,1 @@
+"""What of a program can be left out: why it's kept."""

@@ -41,6 +41,22 @@ def tree():
     return [4]
 
 
+def shares(mode):
+    return [5, mode]
+
+
+def around(part, goal):
+    return [6, part, goal]
+
+
+def both(mode, one, other):
+    return [7, mode, one, other]
+
+
+def heavy(mode):
+    return [8, mode]
+
+
 def told(*calls):
     """What each of the calls answers, on one new object; at most 20 of them."""
     assert len(calls) <= 20
@@ -158,6 +174,28 @@ class Maker:
         return ("say", self.dice.randint(1, 99))
 
 
+def webs(count, seed):
+    """So many programs in which several ways lead to many parts, the same ones each time."""
+    return [web(random.Random(seed * 10000 + number)) for number in range(count)]
+
+
+def web(dice):
+    """A program whose parts lead to later ones for the most part."""
+    names = dice.sample(NAMES, dice.randint(5, 10))
+    parts = []
+    for number, name in enumerate(names):
+        targets = names[number + 1:number + 5] * 4 + names
+        body = [strand(dice, dice.choice(targets)) for statement in range(dice.randint(1, 3))]
+        parts.append((name, dice.randint(1, 99), body))
+    return [("s", ["x", "y"])], parts, names[:dice.randint(1, 2)]
+
+
+def strand(dice, name):
+    """A statement that leads to a part of this name, perhaps in one assignment alone."""
+    statement = dice.choice([("call", name), ("make", [name]), ("make", [name])])
+    return dice.choice([statement, statement, ("when", "s", dice.choice(["x", "y"]), [statement])])
+
+
 # The model.
 
 
@@ -262,24 +300,37 @@ def model_run(program, entry, world, away):
     return entered, 0
 
 
+def model_ways(table, entries):
+    """The first way to each part; the ways of each round are listed whole."""
+    row = [[entry] for entry in entries]
+    ways = {}
+    while row:
+        for way in row:
+            ways.setdefault(way[-1], way)
+        row = [way + [target] for way in row for target in sorted(table[way[-1]]) if target not in ways]
+    return ways
+
+
 def model_chain(program, mode, part):
-    """All that chain answers; the chains of each round are listed whole."""
+    """All that chain answers."""
     best = [0]
     for number, table in enumerate(tables(program, mode)):
-        row = [[entry] for entry in entry_numbers(program)]
-        seen = {ways[-1] for ways in row}
-        while row:
-            for way in row:
-                if way[-1] == part and (best == [0] or len(way) < best[2]):
-                    best = [1, number, len(way)] + way
-            following = []
-            for way in row:
-                for target in sorted(table[way[-1]]):
-                    if target not in seen:
-                        seen.add(target)
-                        following.append(way + [target])
-            row = following
+        way = model_ways(table, entry_numbers(program)).get(part)
+        if way and (best == [0] or len(way) < best[2]):
+            best = [1, number, len(way)] + way
     return best
+
+
+def taken_out(program, part):
+    """By all branches the table and the entries, if nothing led to a part and it were no entry."""
+    table = [targets - {part} for targets in tables(program, 1)[0]]
+    return table, [entry for entry in entry_numbers(program) if entry != part]
+
+
+def model_around(program, part, goal):
+    """All that around answers."""
+    way = model_ways(*taken_out(program, part)).get(goal)
+    return [1, len(way)] + way if way else [0]
 
 
 def model_tree(program):
@@ -295,10 +346,47 @@ def model_tree(program):
     return answer
 
 
+def size(program, parts):
+    """How large parts are together."""
+    return sum(program[1][number][1] for number in parts)
+
+
 def model_lost_answer(program, mode, part):
     """All that lost answers."""
     gone = sorted(model_lost(program, mode, [part]))
-    return [sum(program[1][number][1] for number in gone), len(gone)] + gone
+    return [size(program, gone), len(gone)] + gone
+
+
+def model_sizes(program, mode):
+    """For each part how large what is lost with it is."""
+    return [size(program, model_lost(program, mode, [part])) for part in range(len(program[1]))]
+
+
+def model_shares(program, mode):
+    """All that shares answers."""
+    return [size(program, model_come_to(program, mode))] + model_sizes(program, mode)
+
+
+def model_both(program, mode, one, other):
+    """All that both answers."""
+    gone = [model_lost(program, mode, away) for away in ([one, other], [one], [other])]
+    only = sorted(gone[0] - gone[1] - gone[2])
+    return [size(program, parts) for parts in gone] + [len(only)] + only
+
+
+def model_heavy(program, mode):
+    """All that heavy answers; the heaviest one of those that are left is looked for each time."""
+    sizes = model_sizes(program, mode)
+    left = sorted(model_come_to(program, mode))
+    answer = [len(left)]
+    while left:
+        heaviest = left[0]
+        for part in left:
+            if sizes[part] > sizes[heaviest]:
+                heaviest = part
+        answer += [heaviest, sizes[heaviest]]
+        left.remove(heaviest)
+    return answer
 
 
 def ways_exist(program, part, without):

@@ -127,6 +127,26 @@ class LanguageTest(unittest.TestCase):
                     if isinstance(sign, (ast.Is, ast.IsNot)):
                         self.assertIn(getattr(side, "value", 0), (None, True, False), where)
 
+    def test_sets(self):
+        # Each stands beside a comparison's sign, or straight within sorted or len.
+        for name, text, tree in files():
+            held = []
+            for node in ast.walk(tree):
+                if isinstance(node, ast.Compare):
+                    held += [node.left] + node.comparators
+                elif isinstance(node, ast.Call) and getattr(node.func, "id", "") in ("sorted", "len") and not node.keywords:
+                    held += node.args
+            for node in ast.walk(tree):
+                if isinstance(node, ast.Call) and getattr(node.func, "id", "") in ("set", "frozenset"):
+                    self.assertTrue(any(node is item for item in held), "%s row %d" % (name, node.lineno))
+
+    def test_keywords(self):
+        for where, node in nodes(ast.Call):
+            for keyword in node.keywords:
+                self.assertIn(getattr(node.func, "id", ""), ("sorted", "min", "max"), where)
+                self.assertEqual(keyword.arg, "key", where)
+                self.assertIsInstance(keyword.value, (ast.Lambda, ast.Name), where)
+
     def test_functions_and_classes(self):
         for where, node in nodes(ast.FunctionDef, ast.ClassDef):
             self.assertEqual(node.decorator_list, [], where)

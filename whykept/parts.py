@@ -2,17 +2,22 @@
 
 from whykept.assignments import choices_of
 from whykept.faults import Fault
-from whykept.reaching import EXACTLY, Reach, closest_of_all
+from whykept.reaching import Reach
 from whykept.reading import read_program
-from whykept.showing import one_form
-from whykept.ways import BY_BRANCHES, BY_CONDITIONS, chains_by, tables_of
+from whykept.telling import around, both, chain, heavy, lost, shares, shown, tree
+from whykept.ways import BY_BRANCHES
 
 LOAD = 0
 SHOWN = 1
 CHAIN = 2
 LOST = 3
-# How many numbers stand behind a call's number, tree's being 4; load's text is read apart.
-WIDTHS = (0, 0, 2, 2, 0)
+TREE = 4
+SHARES = 5
+AROUND = 6
+BOTH = 7
+# By a call's number, heavy's being 8: how many modes it has, and how many parts stand behind the mode.
+MODES = (0, 0, 2, 3, 0, 3, 0, 3, 3)
+PARTS = (0, 0, 1, 1, 0, 0, 2, 2, 0)
 # Refusals are told with a minus.
 NO_PROGRAM = 1
 NO_MODE = 2
@@ -32,7 +37,7 @@ def answers(calls):
             answer = holder.load(calls[begin:end])
         else:
             begin = at + 1
-            end = begin + WIDTHS[call]
+            end = begin + width_of(call)
             answer = holder.answer(call, calls[begin:end])
         told.append(len(answer))
         told.extend(answer)
@@ -40,11 +45,17 @@ def answers(calls):
     return told
 
 
+def width_of(call):
+    """How many numbers stand behind the number of a call other than load."""
+    return min(MODES[call], 1) + PARTS[call]
+
+
 class Holder:
-    """The object of the calls: it holds a program, or None."""
+    """The object of the calls: it holds a program, or None, and what is found of it by each mode."""
 
     def __init__(self):
         self.program = None
+        self.reaches = {}
 
     def load(self, codes):
         """Holds the program that these bytes tell, if they tell one."""
@@ -53,6 +64,7 @@ class Holder:
         except Fault as fault:
             return [0, fault.code, fault.place]
         self.program = program
+        self.reaches = {}
         settings = len(program.settings)
         assignments = len(choices_of(program))
         return [1, settings, len(program.parts), len(program.entries), assignments]
@@ -61,61 +73,45 @@ class Holder:
         """What a call other than load answers, given the numbers behind it."""
         if self.program is None:
             return [-NO_PROGRAM]
+        if not has_mode(call, values):
+            return [-NO_MODE]
+        if not has_parts(call, values, self.program):
+            return [-NO_PART]
+        return self.tell(call, values)
+
+    def tell(self, call, values):
+        """What a call that is not refused answers."""
         if call == SHOWN:
             return shown(self.program)
+        if call == TREE:
+            return tree(self.reach(BY_BRANCHES))
+        if call == AROUND:
+            return around(self.reach(BY_BRANCHES), values[0], values[1])
+        reach = self.reach(values[0])
         if call == CHAIN:
-            return chain(self.program, values[0], values[1])
+            return chain(reach, values[1])
         if call == LOST:
-            return lost(self.program, values[0], values[1])
-        # Of the calls that there are, tree alone is left.
-        return tree(self.program)
+            return lost(reach, values[1])
+        if call == SHARES:
+            return shares(reach)
+        if call == BOTH:
+            return both(reach, values[1], values[2])
+        # Of the calls that there are, heavy alone is left.
+        return heavy(reach)
+
+    def reach(self, mode):
+        """What is come to in the program by a mode."""
+        if mode not in self.reaches:
+            self.reaches[mode] = Reach(self.program, mode)
+        return self.reaches[mode]
 
 
-def shown(program):
-    """How many bytes the one form has, and they."""
-    return counted(one_form(program))
+def has_mode(call, values):
+    """Whether the mode that stands behind a call is one of its modes, or it has none."""
+    return MODES[call] == 0 or 0 <= values[0] < MODES[call]
 
 
-def chain(program, mode, part):
-    """The first assignment in which the chain to a part is shortest, and this chain."""
-    if mode not in (BY_CONDITIONS, BY_BRANCHES):
-        return [-NO_MODE]
-    if not is_part(program, part):
-        return [-NO_PART]
-    answer = [0]
-    shortest = len(program.parts) + 1
-    for assignment, table in enumerate(tables_of(program, mode)):
-        found = chains_by(table, program.entries, []).get(part)
-        if found is not None and len(found) < shortest:
-            shortest = len(found)
-            answer = [1, assignment] + counted(found)
-    return answer
-
-
-def lost(program, mode, part):
-    """How large all that is lost with a part is, and these parts."""
-    if mode not in (BY_CONDITIONS, BY_BRANCHES, EXACTLY):
-        return [-NO_MODE]
-    if not is_part(program, part):
-        return [-NO_PART]
-    gone = Reach(program, mode).lost_with([part])
-    return [program.size_of(gone)] + counted(gone)
-
-
-def tree(program):
-    """The parts come to by all branches, each with the closest one it hangs on, or -1."""
-    closest = closest_of_all(program)
-    answer = [len(closest)]
-    for part, holder in closest.items():
-        answer.extend([part, -1 if holder is None else holder])
-    return answer
-
-
-def is_part(program, number):
-    """Whether there is a part of this number."""
-    return 0 <= number < len(program.parts)
-
-
-def counted(numbers):
-    """The numbers behind their count."""
-    return [len(numbers)] + numbers
+def has_parts(call, values, program):
+    """Whether there are all the parts whose numbers stand behind a call."""
+    numbers = values[len(values) - PARTS[call]:]
+    return all([0 <= number < len(program.parts) for number in numbers])

@@ -1,44 +1,57 @@
-"""What is come to, what is lost with a part, and what hangs on what."""
+"""What is come to, what is lost with parts, and what hangs on what."""
 
 from whykept.runs import entered_by_runs
-from whykept.ways import BY_BRANCHES, chains_by, tables_of
+from whykept.ways import chains_by, tables_of
 
 EXACTLY = 2
 
 
 class Reach:
-    """What is come to by one mode; the tables, and what is come to in all, are found once."""
+    """What is come to by one mode.
+
+    What was found once is kept, since several calls ask for the same and runs are many.
+    """
 
     def __init__(self, program, mode):
         self.program = program
         self.tables = None if mode == EXACTLY else tables_of(program, mode)
-        self.whole = self.come_to([])
+        self.known = {}
 
     def come_to(self, away):
         """The parts that are come to with these left away, in order."""
+        key = tuple(sorted(set(away)))
+        if key not in self.known:
+            self.known[key] = sorted(self.search(key))
+        return self.known[key]
+
+    def search(self, away):
+        """A dict of the parts that are come to with these left away, looked for anew."""
         if self.tables is None:
-            found = entered_by_runs(self.program, away)
-        else:
-            found = {}
-            for table in self.tables:
-                found.update(chains_by(table, self.program.entries, away))
-        return sorted(found)
+            return entered_by_runs(self.program, away)
+        found = {}
+        for table in self.tables:
+            found.update(chains_by(table, self.program.entries, away))
+        return found
 
     def lost_with(self, away):
         """The parts that are lost with these, in order."""
         rest = self.come_to(away)
-        return [number for number in self.whole if number not in rest]
+        return [number for number in self.come_to([]) if number not in rest]
+
+    def size_lost(self, away):
+        """How large what is lost with these is, together."""
+        return self.program.size_of(self.lost_with(away))
 
 
-def closest_of_all(program):
-    """A dict from each part come to by all branches to the closest one it hangs on, or None."""
-    reach = Reach(program, BY_BRANCHES)
+def closest_of_all(reach):
+    """A dict from each part that is come to to the closest one it hangs on, or None."""
+    whole = reach.come_to([])
     hangers = {}
-    for number in reach.whole:
+    for number in whole:
         hangers[number] = reach.lost_with([number])
     closest = {}
-    for number in reach.whole:
-        holders = [other for other in reach.whole if other != number and number in hangers[other]]
+    for number in whole:
+        holders = [other for other in whole if other != number and number in hangers[other]]
         closest[number] = closest_among(holders, hangers)
     return closest
 

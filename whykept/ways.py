@@ -6,7 +6,6 @@ A table tells for each part the parts to which it leads, in order of numbers.
 from whykept.assignments import choices_of, holds, made_name
 from whykept.program import Call, Make, When
 
-BY_CONDITIONS = 0
 BY_BRANCHES = 1
 
 
